@@ -1,0 +1,1 @@
+"""Eachplace: sayings over all places of rows."""

@@ -1,0 +1,152 @@
+"""The rules of the language that a short look at the code can see, and where the interface stands."""
+
+import ast
+import builtins
+import pathlib
+import re
+import unittest
+
+PACKAGE = pathlib.Path(__file__).resolve().parent.parent / "eachplace"
+FILES = sorted(PACKAGE.glob("*.py"))
+TREES = {path.stem: ast.parse(path.read_text()) for path in FILES}
+
+ALLOWED_BUILTINS = set(
+    "len range enumerate zip min max sum abs sorted reversed int str bool bytes list tuple dict set isinstance ord "
+    "repr any all divmod ValueError KeyError iter next".split()
+)
+BARRED_WORDS = re.compile(
+    r"\b(type|typing|typing_extensions|enum|Enum|IntEnum|StrEnum|Flag|IntFlag|Generic|Protocol|ABC|ABCMeta|namedtuple|"
+    r"NamedTuple|TypedDict|TYPE_CHECKING|abstractmethod)\b|dataclass|overload|contextmanager"
+)
+BARRED_NODES = (
+    ast.Global, ast.AsyncFunctionDef, ast.AsyncFor, ast.AsyncWith, ast.Await, ast.Div, ast.Import, ast.MatMult,
+)
+INTERFACE = {
+    "errors": {"EachError": None, "NoText": None, "TooWide": None, "NoRow": None},
+    "names": {"is_name": ["thing"]},
+    "casts": {"is_cast": ["thing"]},
+    "standings": {
+        "is_standing": ["cast", "thing"],
+        "length_of": ["standing"],
+        "size_of": ["standing"],
+        "place_of": ["cast", "standing", "name"],
+        "number_at": ["cast", "standing", "row", "place"],
+    },
+}
+
+
+def bound_names(tree):
+    """Each name that functions and classes of the file bind, parameters too."""
+    for node in ast.walk(tree):
+        if isinstance(node, (ast.FunctionDef, ast.ClassDef)):
+            yield node.name
+        elif isinstance(node, ast.arg):
+            yield node.arg
+        elif isinstance(node, ast.Name) and not isinstance(node.ctx, ast.Load):
+            yield node.id
+
+
+def imports_of(tree):
+    return [node for node in ast.walk(tree) if isinstance(node, ast.ImportFrom)]
+
+
+def defined_at_top(tree):
+    names = []
+    for node in tree.body:
+        if isinstance(node, (ast.FunctionDef, ast.ClassDef)):
+            names.append(node.name)
+        elif isinstance(node, ast.Assign):
+            names.extend(target.id for target in node.targets)
+    return names
+
+
+class LanguageTest(unittest.TestCase):
+    def test_files(self):
+        others = [path.name for path in PACKAGE.iterdir() if path.suffix != ".py" and path.name != "__pycache__"]
+        self.assertEqual(others, [])
+        for path in FILES:
+            self.assertRegex(path.stem, r"\A([a-z][a-z0-9_]*|__init__|__main__)\Z")
+            self.assertNotIn(path.stem, dir(builtins))
+
+    def test_lines_and_signs(self):
+        for path in FILES:
+            text = path.read_text()
+            self.assertRegex(text, r"\A[\n -~]*\Z", path)
+            self.assertIsNone(BARRED_WORDS.search(text), path)
+            self.assertLessEqual(len(text.splitlines()), 399, path)
+            self.assertLessEqual(max(map(len, text.splitlines()), default=0), 120, path)
+
+    def test_functions_are_short(self):
+        for stem, tree in TREES.items():
+            for node in ast.walk(tree):
+                if isinstance(node, ast.FunctionDef):
+                    self.assertLessEqual(node.end_lineno - node.lineno + 1, 40, (stem, node.name))
+
+    def test_imports(self):
+        for stem, tree in TREES.items():
+            for node in imports_of(tree):
+                self.assertRegex(node.module, r"\Aeachplace\.[a-z]+\Z", stem)
+                source = TREES[node.module.partition(".")[2]]
+                for alias in node.names:
+                    self.assertIn(alias.name, defined_at_top(source), stem)
+
+    def test_no_files_import_each_other(self):
+        left = {
+            stem: {node.module.partition(".")[2] for node in imports_of(tree)} for stem, tree in TREES.items()
+        }
+        while left:
+            free = [stem for stem in left if not left[stem] & set(left)]
+            self.assertNotEqual(free, [], left)
+            for stem in free:
+                del left[stem]
+
+    def test_module_level(self):
+        plain = (ast.ImportFrom, ast.FunctionDef, ast.ClassDef, ast.Assign)
+        for stem, tree in TREES.items():
+            for node in tree.body:
+                docstring = node is tree.body[0] and ast.get_docstring(tree) is not None
+                self.assertTrue(docstring or isinstance(node, plain), (stem, node.lineno))
+            names = defined_at_top(tree) + [alias.name for node in imports_of(tree) for alias in node.names]
+            self.assertEqual(len(set(names)), len(names), stem)
+
+    def test_names(self):
+        for stem, tree in TREES.items():
+            imported = {alias.name for node in imports_of(tree) for alias in node.names}
+            for name in bound_names(tree):
+                self.assertRegex(name, r"\A[A-Za-z][A-Za-z0-9_]*\Z", stem)
+                self.assertNotIn(name, dir(builtins), stem)
+                self.assertNotIn(name, imported, stem)
+
+    def test_builtins(self):
+        for stem, tree in TREES.items():
+            for node in ast.walk(tree):
+                if isinstance(node, ast.Name) and node.id in dir(builtins):
+                    self.assertIn(node.id, ALLOWED_BUILTINS, (stem, node.lineno))
+
+    def test_barred_forms(self):
+        for stem, tree in TREES.items():
+            for node in ast.walk(tree):
+                self.assertNotIsInstance(node, BARRED_NODES, stem)
+                if isinstance(node, ast.Constant):
+                    self.assertNotIsInstance(node.value, (float, complex), (stem, node.lineno))
+                if isinstance(node, ast.Compare):
+                    for sign, other in zip(node.ops, node.comparators):
+                        if isinstance(sign, (ast.Is, ast.IsNot)):
+                            self.assertIn(getattr(other, "value", 0), (None, True, False), (stem, node.lineno))
+
+
+class InterfaceTest(unittest.TestCase):
+    def test_each_is_defined_where_it_is_listed(self):
+        for stem, listed in INTERFACE.items():
+            nodes = {node.name: node for node in TREES[stem].body if hasattr(node, "name")}
+            for name, arguments in listed.items():
+                self.assertIn(name, nodes, stem)
+                if arguments is None:
+                    self.assertIsInstance(nodes[name], ast.ClassDef)
+                else:
+                    self.assertIsInstance(nodes[name], ast.FunctionDef)
+                    self.assertEqual([arg.arg for arg in nodes[name].args.args], arguments, name)
+
+
+if __name__ == "__main__":
+    unittest.main()
