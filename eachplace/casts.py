@@ -26,3 +26,17 @@ def are_rising_names(thing):
 def are_unlike(names):
     """Whether no name stands twice among these."""
     return len(set(names)) == len(names)
+
+
+def sorts_of(cast):
+    """A dict of what each name may stand for: "row", "place" or "number"; the end may for a place."""
+    sorts = {"end": "place"}
+    for sort, names in zip(("row", "place", "number"), cast):
+        for name in names:
+            sorts[name] = sort
+    return sorts
+
+
+def is_of_sort(sorts, sort, thing):
+    """Whether anything is a name that may stand for a thing of this sort."""
+    return isinstance(thing, str) and sorts.get(thing) == sort

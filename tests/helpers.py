@@ -1,6 +1,7 @@
 """Things that several tests hand in."""
 
 import copy
+import random
 
 GREAT = 10 ** 40 - 1
 
@@ -58,3 +59,49 @@ class Asking:
         told = asked_twice(self, function, *handed)
         self.assertIs(type(told), int, handed)
         self.assertEqual(told, number, handed)
+
+
+class Maker:
+    """Makes right sums and sayings of a cast, the same ones each time."""
+
+    def __init__(self, cast, seed):
+        self.cast = cast
+        self.dice = random.Random(seed)
+
+    def sum(self, bound=()):
+        rows, places, numbers = self.cast
+        bases = [None, (self.dice.choice(rows), self.dice.choice([*places, *bound, *bound, "end"]))]
+        bases.extend(numbers[:1] and [self.dice.choice(numbers)])
+        return (self.dice.choice(bases), self.dice.choice([0, 0, 1, -1, 2, -3]))
+
+    def place(self, bound=()):
+        return self.dice.choice([*self.cast[1], *bound, *bound, "end"])
+
+    def saying(self, deep, bound=None):
+        inner = bound or ()
+        words = ["most", "less", "same", "unlike", "ahead", "here"]
+        words += ["not", "and", "or", "if"] * (2 if deep > 1 else 0)
+        if bound is None:
+            words += ["next", "nexts"]
+            words += ["each", "pairs"] * (3 if deep > 1 else 0)
+        word = self.dice.choice(words)
+        if word in ("most", "less", "same", "unlike"):
+            return (word, self.sum(inner), self.sum(inner))
+        if word in ("ahead", "here", "next"):
+            return (word, self.place(inner), self.place(inner))
+        if word == "nexts":
+            return (word, self.dice.choice(self.cast[0]), self.dice.choice(["most", "less", "same", "least", "more"]))
+        if word == "each":
+            return (word, "x", self.saying(deep - 1, ("x",)))
+        if word == "pairs":
+            return (word, "y", "x", self.saying(deep - 1, ("y", "x")))
+        if word == "not":
+            return (word, self.saying(deep - 1, bound))
+        if word == "if":
+            return (word, self.saying(deep - 1, bound), self.saying(deep - 1, bound))
+        return (word, tuple(self.saying(deep - 1, bound) for _ in range(self.dice.randrange(4))))
+
+    def standing(self, length):
+        rows = tuple(tuple(self.dice.randrange(-3, 4) for _ in range(length)) for _ in self.cast[0])
+        places = tuple(self.dice.randrange(length + 1) for _ in self.cast[1])
+        return (rows, places, tuple(self.dice.randrange(-3, 4) for _ in self.cast[2]))

@@ -32,6 +32,15 @@ INTERFACE = {
         "place_of": ["cast", "standing", "name"],
         "number_at": ["cast", "standing", "row", "place"],
     },
+    "sums": {"is_sum": ["cast", "thing"], "worth": ["cast", "standing", "one"]},
+    "sayings": {"is_saying": ["cast", "thing"], "atoms_in": ["saying"], "needed": ["cast", "saying"]},
+    "holding": {"holds": ["cast", "standing", "saying"]},
+    "sayingtexts": {
+        "show_sum": ["one"],
+        "show_saying": ["saying"],
+        "read_sum": ["cast", "text"],
+        "read_saying": ["cast", "text"],
+    },
 }
 
 
