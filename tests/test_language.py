@@ -41,6 +41,19 @@ INTERFACE = {
         "read_sum": ["cast", "text"],
         "read_saying": ["cast", "text"],
     },
+    "standingtexts": {
+        "show_cast": ["cast"],
+        "show_standing": ["cast", "standing"],
+        "read_cast": ["text"],
+        "read_standing": ["cast", "text"],
+    },
+    "differences": {"solved": ["edges"]},
+    "bounds": {"bounded": ["edges"]},
+    "facts": {
+        "put_for": ["saying", "name", "place"],
+        "opened": ["fact", "strange"],
+        "used": ["fact", "places"],
+    },
 }
 
 
