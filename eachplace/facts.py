@@ -1,6 +1,6 @@
 """Facts: sayings that are so, or aren't; how they are opened, and used at places."""
 
-from eachplace.sayings import BETWEEN_PLACES, BETWEEN_SUMS, JOINING
+from eachplace.sayings import BETWEEN_PLACES, BETWEEN_SUMS, BROUGHT, JOINING
 
 
 def put_for(saying, name, place):
@@ -126,3 +126,14 @@ def used(fact, places):
         between = (("ahead", saying[1], places[0]), ("ahead", places[0], saying[2]))
         return (False, ("and", between))
     return None
+
+
+def strangers_in(fact, case):
+    """How many strange places come where a fact is opened: in this case of it, or in its parts (None)."""
+    truth, saying = fact
+    if truth:
+        return 0
+    # Of a next that isn't so the second case alone tells of a place between.
+    if saying[0] == "next":
+        return 1 if case == 1 else 0
+    return BROUGHT.get(saying[0], 0)

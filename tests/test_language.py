@@ -21,6 +21,11 @@ BARRED_WORDS = re.compile(
 BARRED_NODES = (
     ast.Global, ast.AsyncFunctionDef, ast.AsyncFor, ast.AsyncWith, ast.Await, ast.Div, ast.Import, ast.MatMult,
 )
+BUILTIN_METHODS = set(
+    "append clear copy count endswith extend find get index insert isalnum isalpha isdigit islower isspace isupper items "
+    "join keys ljust lower lstrip partition pop remove replace reverse rfind rjust rpartition rsplit rstrip setdefault "
+    "split splitlines startswith strip update upper values zfill bit_length removeprefix removesuffix".split()
+)
 INTERFACE = {
     "errors": {"EachError": None, "NoText": None, "TooWide": None, "NoRow": None},
     "names": {"is_name": ["thing"]},
@@ -54,6 +59,10 @@ INTERFACE = {
         "opened": ["fact", "strange"],
         "used": ["fact", "places"],
     },
+    "checker": {"is_paper": ["cast", "saying", "thing", "most"]},
+    "deciding": {"decided": ["cast", "saying"]},
+    "least": {"least_break": ["cast", "saying"]},
+    "turnings": {"turned": ["cast", "standing", "turning"], "joined": ["one", "other"]},
 }
 
 
@@ -135,6 +144,8 @@ class LanguageTest(unittest.TestCase):
         for stem, tree in TREES.items():
             imported = {alias.name for node in imports_of(tree) for alias in node.names}
             for name in bound_names(tree):
+                if name == "__init__":
+                    continue
                 self.assertRegex(name, r"\A[A-Za-z][A-Za-z0-9_]*\Z", stem)
                 self.assertNotIn(name, dir(builtins), stem)
                 self.assertNotIn(name, imported, stem)
@@ -155,6 +166,46 @@ class LanguageTest(unittest.TestCase):
                     for sign, other in zip(node.ops, node.comparators):
                         if isinstance(sign, (ast.Is, ast.IsNot)):
                             self.assertIn(getattr(other, "value", 0), (None, True, False), (stem, node.lineno))
+
+
+    def test_methods_and_attributes(self):
+        nodes = [node for tree in TREES.values() for node in ast.walk(tree)]
+        methods = {
+            part.name for node in nodes if isinstance(node, ast.ClassDef) for part in node.body
+            if isinstance(part, ast.FunctionDef)
+        }
+        attributes = [node for node in nodes if isinstance(node, ast.Attribute)]
+        assigned = {node.attr for node in attributes if isinstance(node.ctx, ast.Store)}
+        self.assertEqual(methods & assigned, set())
+        for node in attributes:
+            self.assertIn(node.attr, methods | assigned | BUILTIN_METHODS, node.lineno)
+            self.assertNotRegex(node.attr, r"\A_", node.lineno)
+        self.assertEqual(assigned & BUILTIN_METHODS, set())
+        self.assertEqual((methods - {"__init__"}) & BUILTIN_METHODS, set())
+
+    def test_generator_expressions_stand_directly_in_calls(self):
+        allowed = {"any", "all", "sum", "min", "max", "sorted", "tuple", "list", "dict", "join"}
+        for stem, tree in TREES.items():
+            inside = set()
+            for node in ast.walk(tree):
+                if isinstance(node, ast.Call):
+                    name = getattr(node.func, "id", getattr(node.func, "attr", None))
+                    if name in allowed and not node.keywords:
+                        inside |= {id(arg) for arg in node.args}
+                    for arg in node.args:
+                        lazy = isinstance(arg, ast.Call) and getattr(arg.func, "id", None) in ("zip", "range", "enumerate")
+                        plain = name in allowed | {"enumerate", "zip"}
+                        self.assertTrue(plain or not lazy, (stem, node.lineno))
+            for node in ast.walk(tree):
+                if isinstance(node, ast.GeneratorExp):
+                    self.assertIn(id(node), inside, (stem, node.lineno))
+
+    def test_strings_and_sets(self):
+        for stem, tree in TREES.items():
+            for node in ast.walk(tree):
+                if isinstance(node, ast.Constant) and isinstance(node.value, str):
+                    self.assertNotIn("%", node.value, (stem, node.lineno))
+                self.assertNotIsInstance(node, (ast.Set, ast.SetComp, ast.Pow, ast.NamedExpr), (stem, node))
 
 
 class InterfaceTest(unittest.TestCase):

@@ -1,0 +1,125 @@
+"""The search: branches that are closed, or a standing that breaks a saying."""
+
+from eachplace.branches import Question, first_branch
+from eachplace.choosing import choice_of, closed_by_choice, failing, go_on_by, open_strange, order_to_split, take_up
+from eachplace.facts import strangers_in
+from eachplace.models import holders_of, model_of, undecided_pair
+from eachplace.proofs import Way, closed_behind, closed_by_ways
+from eachplace.settling import all_made_one, settled
+
+
+class Split:
+    """A branch that goes on in several ways: cases of a fact, or the order of two places."""
+
+    def __init__(self, branch, word, fact, places, cases):
+        self.branch = branch
+        self.word = word
+        self.fact = fact
+        self.places = places
+        self.cases = cases
+        self.ways = []
+
+    def next_guests(self):
+        """How many strange places come on the way that is gone next."""
+        if self.fact is None:
+            return 0
+        return strangers_in(self.branch.facts[self.fact], len(self.ways))
+
+    def next_branch(self):
+        """The branch on the way that is gone next."""
+        other = self.branch.twin()
+        other.lay(self.cases[len(self.ways)], self.next_guests())
+        return other
+
+    def taken_back(self, proof):
+        """What closes the branch of the split, one way more being closed; None where more are to be gone."""
+        laid = self.branch.next_laid(len(self.cases[len(self.ways)]), self.next_guests())
+        # What doesn't rest on the way that was gone closes all others, too.
+        if proof.rests & laid.mask() == 0:
+            return closed_behind(self.branch.steps, proof)
+        self.ways.append(Way(laid, proof))
+        if len(self.ways) < len(self.cases):
+            return None
+        return closed_behind(self.branch.steps, closed_by_ways(self.word, self.fact, self.places, self.ways))
+
+
+def searched(cast, saying, most, size):
+    """("broken", standing), of at most so many places and that size (or None), or ("closed", proof)."""
+    branch = first_branch(Question(cast, saying, most, size))
+    branch.lay(((False, saying),), 0)
+    splits = []
+    proof = all_made_one(branch)
+    while True:
+        if proof is None:
+            word, told = gone_on(branch)
+            if word == "broken":
+                return (word, told)
+            if word == "split":
+                splits.append(told)
+                branch = told.next_branch()
+                continue
+            proof = told
+        while proof is not None and len(splits) > 0:
+            proof = splits[-1].taken_back(proof)
+            if proof is None:
+                branch = splits[-1].next_branch()
+            else:
+                splits.pop()
+        if proof is not None:
+            return ("closed", proof)
+
+
+def gone_on(branch):
+    """Goes on without a choice as far as can be: ("broken", standing), ("closed", proof) or ("split", split)."""
+    while True:
+        proof = settled(branch)
+        if proof is not None:
+            return ("closed", closed_behind(branch.steps, proof))
+        holders = holders_of(branch)
+        most = branch.question.most
+        if most is not None and len(holders) > most:
+            return ("split", split_by_order(branch, undecided_pair(branch, holders)))
+        model = model_of(branch, holders)
+        found = failing(branch, model)
+        if len(found) == 0:
+            return ("broken", model.standing)
+        told = opened_next(branch, found)
+        if told is not None:
+            return told
+
+
+def opened_next(branch, found):
+    """Opens failing facts: None where the branch goes on by itself, else what is told of it."""
+    choices = []
+    for k, places in found:
+        choice = choice_of(branch, k, places)
+        if choice.cases is not None and len(choice.free) == 0:
+            return ("closed", closed_behind(branch.steps, closed_by_choice(branch, choice)))
+        choices.append(choice)
+    single = [choice for choice in choices if len(choice.free) == 1]
+    for choice in single:
+        go_on_by(branch, choice)
+    if len(single) > 0:
+        return None
+    strange = [choice for choice in choices if choice.cases is None]
+    if len(strange) > 0:
+        open_strange(branch, strange[0])
+        return None
+    return ("split", split_of(branch, choices))
+
+
+def split_of(branch, choices):
+    """The split by one of these choices."""
+    choice = min(choices, key=lambda each: len(each.free))
+    pair = order_to_split(branch, choice)
+    if pair is not None:
+        return split_by_order(branch, pair)
+    k = take_up(branch, choice)
+    return Split(branch, "cases", k, (), choice.cases)
+
+
+def split_by_order(branch, pair):
+    """The split by the order of two places."""
+    one, other = pair
+    ways = (("ahead", one, other), ("here", one, other), ("ahead", other, one))
+    return Split(branch, "order", None, pair, [((True, way),) for way in ways])
