@@ -88,12 +88,14 @@ def go_on_by(branch, choice):
     """Lays the one free case of a fact behind the others."""
     k = take_up(branch, choice)
     case = choice.free[0]
+    # Strange places may have come since the choice was looked at, so the next one has another number.
+    cases = opened(choice.fact, branch.strange)[1]
     ways = []
-    for at, facts in enumerate(choice.cases):
+    for at, facts in enumerate(cases):
         if at != case:
             laid = branch.next_laid(len(facts), strangers_in(choice.fact, at))
             ways.append(Way(laid, refutation(branch, facts, laid.first)))
-    laid = branch.lay(choice.cases[case], strangers_in(choice.fact, case))
+    laid = branch.lay(cases[case], strangers_in(choice.fact, case))
     branch.steps.append(Step("case", k, laid, (), case, ways))
 
 

@@ -83,12 +83,12 @@ def gone_on(branch):
         found = failing(branch, model)
         if len(found) == 0:
             return ("broken", model.standing)
-        told = opened_next(branch, found)
+        told = acted_on(branch, found)
         if told is not None:
             return told
 
 
-def opened_next(branch, found):
+def acted_on(branch, found):
     """Opens failing facts: None where the branch goes on by itself, else what is told of it."""
     choices = []
     for k, places in found:

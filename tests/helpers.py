@@ -105,3 +105,55 @@ class Maker:
         rows = tuple(tuple(self.dice.randrange(-3, 4) for _ in range(length)) for _ in self.cast[0])
         places = tuple(self.dice.randrange(length + 1) for _ in self.cast[1])
         return (rows, places, tuple(self.dice.randrange(-3, 4) for _ in self.cast[2]))
+
+
+class Mixer:
+    """Makes sayings in which much hangs together: few rows and places, most words joining others."""
+
+    CASTS = (
+        (("a",), ("i", "j", "k"), ()),
+        (("a", "b"), ("i", "j"), ("c",)),
+        (("a", "b", "e"), ("i",), ("c", "d")),
+        (("a",), (), ("c",)),
+        (("a",), ("i", "j", "k", "l"), ("c",)),
+    )
+
+    def __init__(self, seed):
+        self.dice = random.Random(seed)
+        self.cast = self.CASTS[seed % len(self.CASTS)]
+        self.most = self.dice.choice((0, 1, 1, 3, 10 ** 9 - 1))
+
+    def place(self, bound):
+        return self.dice.choice([*self.cast[1], "end", *bound, *bound, *bound])
+
+    def sum(self, bound):
+        row = self.dice.choice(self.cast[0])
+        base = self.dice.choice([(row, self.place(bound)), (row, self.place(bound)), None, *self.cast[2][:2]])
+        return (base, self.dice.randint(-self.most, self.most))
+
+    def atom(self, bound):
+        words = ["ahead", "here", "most", "most", "less", "less", "same", "unlike", "unlike"]
+        word = self.dice.choice(words + ([] if bound else ["next", "next", "nexts"]))
+        if word == "nexts":
+            return (word, self.dice.choice(self.cast[0]), self.dice.choice(["most", "less", "same", "least", "more"]))
+        if word in ("ahead", "here", "next"):
+            return (word, self.place(bound), self.place(bound))
+        return (word, self.sum(bound), self.sum(bound))
+
+    def saying(self, deep, bound=()):
+        if deep <= 1 or self.dice.random() < 0.1:
+            return self.atom(bound)
+        word = self.dice.choice(["and", "or", "not", "if", "and", "or"] + ([] if bound else ["each", "each", "pairs", "pairs"]))
+        if word == "each":
+            return (word, "x", self.saying(deep - 1, ("x",)))
+        if word == "pairs":
+            return (word, "x", "y", self.saying(deep - 1, ("x", "y")))
+        many = {"not": 1, "if": 2}.get(word) or self.dice.randint(2, 3)
+        parts = tuple(self.saying(deep - 1, bound) for _ in range(many))
+        return (word, *parts) if word in ("not", "if") else (word, parts)
+
+    def claim(self):
+        """That of several sayings another one follows."""
+        parts = [self.saying(self.dice.randint(1, 3)) for _ in range(self.dice.randint(0, 5))]
+        parts = tuple(("not", part) if self.dice.random() < 0.3 else part for part in parts)
+        return ("if", ("and", parts), self.saying(self.dice.randint(2, 5)))

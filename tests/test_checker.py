@@ -225,6 +225,13 @@ class CaseTest(PaperTest):
         self.assert_refused(text, ahead + (("case", 2, 1, ((("use", 4, (0,)), none),)),) + guard_at)
         self.assert_refused(text, ahead + (("use", 4, (0,)), ("case", 2, 1, ((none,),))) + guard_at)
         self.assert_refused(text, ahead + (("parts", 2), none))
+        # In the second case just one has come.
+        for place, let_by in ((0, True), (1, False)):
+            paper = ahead + (("case", 2, 1, ((none,),)), ("use", 4, (place,)), ("use", 4, (0,)))
+            later = put_at(put_at(guard_at[1:], (0, 1), 8), (0, 3, 0, 0, 1, 0), (9, 0))
+            later = put_at(put_at(later, (1, 1), 9), (2, 1), 10)
+            later = put_at(put_at(later, (2, 2, 0, 0, 1, 1), (11, 0)), (2, 2, 1, 0, 1, 1), (11, 0))
+            self.assertIs(is_paper(CAST, said(text), paper + later), let_by)
 
 
 class OrderTest(PaperTest):
@@ -248,6 +255,14 @@ class OrderTest(PaperTest):
         self.assert_let_by("most c c", (("order", "i", "i", (never, ring, never)),))
         self.assert_let_by("most c c", (("order", "end", "i", ((("line", ((1, 0), (None, "i"))),), ring, ring)),))
         self.assert_refused("most c c", (("order", "i", "j", (never, ring, never)),))
+
+    def test_both_are_places(self):
+        papers = ((("ring", ((0, None, 0),)),),) * 3
+        right = ("i", "j", "end")
+        for one, other in itertools.product(right, repeat=2):
+            self.assert_let_by("most c c", (("order", one, other, papers),))
+        for place in ("k", "a", "c", "x", "", 0, 1, -1, True, False, None, ("i",), ["i"], {}):
+            self.assert_refused("most c c", (("order", place, "i", papers),), (("order", "i", place, papers),))
 
     def test_wrong_orders(self):
         papers = (self.ONE, self.HERE, self.OTHER)
@@ -308,6 +323,14 @@ class RingTest(PaperTest):
         # Only a here that is so is an edge.
         self.assert_ring("if not here i j most a.i a.j", (3, "a", 0), (2, None, 0), ahead=(("parts", 0), ("parts", 1)), let_by=False)
         self.assert_ring("if ahead i j most a.i a.j", (1, "a", 0), (2, None, 0), let_by=False)
+
+    def test_rows_are_the_casts(self):
+        # The way to the row and back adds nothing, so that only its name is wrong.
+        text = "if here i end most 0 0"
+        for row in ("a", "b"):
+            self.assert_ring(text, (2, None, 0), (1, row, 1), (1, row, 0))
+        for row in ("c", "i", "end", "zz", "", "A", None, 0, True, ("a",), ["a"], {"a": 0}, ()):
+            self.assert_ring(text, (2, None, 0), (1, row, 1), (1, row, 0), let_by=False)
 
     def test_wrong_edges_of_sums(self):
         text = "if most a.i c most a.i c"

@@ -9,7 +9,7 @@ from eachplace.holding import holds
 from eachplace.sayings import atoms_in, is_saying, needed
 from eachplace.sayingtexts import read_saying
 from eachplace.standings import is_standing, length_of
-from tests.helpers import Maker, asked_twice, nested
+from tests.helpers import Maker, Mixer, asked_twice, nested
 
 CAST = (("a", "b"), ("i", "j"), ("c", "d"))
 NINE = "999999999"
@@ -131,6 +131,30 @@ class WordsTest(DecidedTest):
             if needed(CAST, saying) <= 6 and atoms_in(saying) <= 40:
                 seen.add(self.assert_decided(CAST, saying))
         self.assertEqual(seen, {"holds", "broken"})
+
+    def test_much_that_hangs_together(self):
+        seen = {"holds": 0, "broken": 0}
+        for seed in range(3000):
+            mixer = Mixer(seed)
+            saying = mixer.claim()
+            if needed(mixer.cast, saying) <= 6 and atoms_in(saying) <= 40:
+                word, told = decided(mixer.cast, saying)
+                seen[word] += 1
+                if word == "holds":
+                    self.assertIs(is_paper(mixer.cast, saying, told), True, saying)
+                else:
+                    self.assertIs(is_standing(mixer.cast, told), True, saying)
+                    self.assertIs(holds(mixer.cast, told, saying), False, saying)
+        self.assertGreater(min(seen.values()), 800)
+
+    def test_several_places_between(self):
+        for text in (
+            "if and ( ahead i j ahead j end each x if ahead j x here x i ) or ( next i j next j end )",
+            "if and ( ahead i j ahead j end each x if ahead x j here x i ) or ( next i j next j end )",
+            "if and ( ahead i j ahead j end each x if ahead i x most 1 a.x each x if ahead j x less a.x 1 ) or ( next i j next j end )",
+        ):
+            self.assert_decided(CAST, said(text), "holds")
+        self.assert_decided(CAST, said("if and ( ahead i j ahead j end ) or ( next i j next j end )"), "broken")
 
     def test_against_all_small_standings(self):
         cast = (("a",), ("i",), ("c",))

@@ -49,6 +49,9 @@ class PutForTest(FactsTest):
         saying = ("most", at("x", "x", 1), ("x", 2))
         self.assert_told(put_for, (saying, "x", 0), ("most", at("x", 0, 1), ("x", 2)))
         self.assert_told(put_for, (("nexts", "x", "less"), "x", 0), ("nexts", "x", "less"))
+        self.assert_told(put_for, (("nexts", "a", "less"), "x", 0), ("nexts", "a", "less"))
+        both = ("and", (("nexts", "a", "more"), ("here", "x", "x")))
+        self.assert_told(put_for, (both, "x", 0), ("and", (("nexts", "a", "more"), ("here", 0, 0))))
         self.assert_told(put_for, (("less", (None, 4), ("x", 0)), "x", 0), ("less", (None, 4), ("x", 0)))
         self.assert_told(put_for, (("nexts", "less", "less"), "less", 0), ("nexts", "less", "less"))
 

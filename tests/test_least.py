@@ -1,4 +1,5 @@
 import itertools
+import random
 import unittest
 
 from eachplace.checker import is_paper
@@ -9,7 +10,7 @@ from eachplace.least import least_break
 from eachplace.sayings import atoms_in, needed
 from eachplace.sayingtexts import read_saying
 from eachplace.standings import is_standing, length_of, size_of
-from tests.helpers import Maker, asked_twice
+from tests.helpers import Maker, Mixer, asked_twice
 from tests.test_deciding import small_standings, with_atoms
 
 CAST = (("a",), ("i",), ("c",))
@@ -116,6 +117,18 @@ class LeastTest(LeastCase):
         saying = read_saying(CAST, f"if ahead i end or ( {parts} )")
         self.assert_least(CAST, saying, 1, 9)
 
+    def test_the_least_of_many_sizes_in_any_order(self):
+        dice = random.Random(17)
+        for turn in range(150):
+            greatest = dice.choice((6, 30, 10 ** 9))
+            sizes = [dice.randint(1, greatest) for _ in range(dice.randint(1, 16))]
+            if turn % 3 == 0:
+                low = dice.randint(1, 40)
+                sizes = list(range(low, low + dice.randint(1, 16)))
+                dice.shuffle(sizes)
+            parts = " ".join(f"unlike c {dice.choice((-1, 1)) * size}" for size in sizes)
+            self.assert_least(CAST, read_saying(CAST, f"and ( {parts} )"), 0, min(sizes))
+
     def test_held_against_all_small_standings(self):
         casts = (CAST, LONE, (("a", "b"), (), ()), (("a",), ("i", "j"), ()))
         found = set()
@@ -139,6 +152,27 @@ class LeastTest(LeastCase):
                 shorter = small_standings(cast, fewer, range(-1, 2))
                 self.assertTrue(all(holds(cast, one, saying) for one in shorter), saying)
         self.assertGreater(len(found), 6)
+
+
+    def test_much_that_hangs_together(self):
+        found = set()
+        for seed in range(2000):
+            mixer = Mixer(seed)
+            saying = mixer.claim()
+            if needed(mixer.cast, saying) > 4 or atoms_in(saying) > 16:
+                continue
+            told = least_break(mixer.cast, saying)
+            self.assertEqual(told is None, decided(mixer.cast, saying)[0] == "holds")
+            if told is None:
+                continue
+            standing, paper = told
+            length = length_of(standing)
+            found.add(length)
+            self.assertIs(is_standing(mixer.cast, standing), True)
+            self.assertIs(holds(mixer.cast, standing, saying), False)
+            self.assertEqual(paper is None, length == 0)
+            self.assertIs(length == 0 or is_paper(mixer.cast, saying, paper, length - 1), True)
+        self.assertLessEqual({0, 1, 2}, found)
 
 
 class WideTest(unittest.TestCase):
