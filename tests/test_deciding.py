@@ -166,6 +166,43 @@ class WordsTest(DecidedTest):
                 self.assertTrue(all(holds(cast, standing, saying) for standing in standings), saying)
 
 
+class ShownAtOnceTest(DecidedTest):
+    """Sayings within others that other facts decide, whatever words they are made of."""
+
+    CAST = (("a",), ("i", "j"), ("c", "d"))
+    STANDING = (((2, 5),), (0, 1), (1, 3))
+    FACTS = "same c 1 same d 3 same a.i 2 same a.j 5 ahead i j ahead j end"
+
+    def test_words_within_words(self):
+        facts = said(f"and ( {self.FACTS} )", self.CAST)[1]
+        maker = Maker(self.CAST, 16)
+        seen = {"holds": 0, "broken": 0}
+        for turn in range(1200):
+            # Within an each neither next nor nexts nor another each stands: facts decide all else.
+            one, other = maker.saying(1 + turn % 5, ("i", "j")), maker.saying(1 + turn % 4, ("i", "j"))
+            joined = ("or", (one, other)) if turn % 2 else ("and", (("or", (one, other)), ("if", other, one)))
+            saying = ("not", ("and", facts + (joined,)))
+            if atoms_in(saying) <= 40:
+                word = "broken" if holds(self.CAST, self.STANDING, joined) else "holds"
+                seen[word] += 1
+                self.assertEqual(self.assert_decided(self.CAST, saying), word, saying)
+        self.assertGreater(min(seen.values()), 200)
+
+    def test_each_word(self):
+        for text, so in (
+            ("most c d", True), ("less d c", False), ("same c d", False), ("same c+2 d", True), ("unlike c d", True), ("unlike a.i 2", False),
+            ("ahead i j", True), ("ahead j i", False), ("here i j", False), ("here i i", True), ("next j i", False), ("next i i", False),
+            ("not less c d", False), ("and ( less c d less d c )", False), ("or ( less d c less a.j c )", False),
+            ("if less c d less d c", False), ("if less d c less d c", True), ("if less c d less c d", True), ("not if less c d less d c", True),
+        ):
+            first = said(f"not and ( {self.FACTS} or ( {text} less d c ) )", self.CAST)
+            self.assert_decided(self.CAST, first, "broken" if so else "holds")
+            second = said(f"not and ( {self.FACTS} or ( not {text} less d c ) )", self.CAST)
+            self.assert_decided(self.CAST, second, "holds" if so else "broken")
+            third = said(f"if each x {text} if and ( {self.FACTS} ) {text}", self.CAST) if "next" not in text else first
+            self.assert_decided(self.CAST, third)
+
+
 class WideTest(DecidedTest):
     def test_atoms(self):
         self.assert_decided(CAST, with_atoms(40), "holds")
