@@ -22,6 +22,11 @@ class Question:
         self.bases = [None] + [name for name in cast[2] if name in told]
         self.bases.extend([(row, place) for row in self.rows for place in self.spots[1:]])
         self.node_of = {base: at for at, base in enumerate(self.bases)}
+        self.weights = {}
+
+    def weigh(self, source):
+        """Writes down that a split which came by this choice was needed for a proof once more."""
+        self.weights[source] = self.weights.get(source, 0) + 1
 
     def node(self, base):
         """The number of a base among those of the spans; all that is worth 0 is one."""

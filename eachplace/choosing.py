@@ -1,6 +1,6 @@
 """What to do next on a branch whose model isn't a break: which facts fail in it, and how they are opened."""
 
-from eachplace.facts import opened, strangers_in, used
+from eachplace.facts import at_two, opened, strangers_in, used
 from eachplace.holding import holds_at
 from eachplace.proofs import Step, Way, closed_by_ways
 from eachplace.refuting import is_refuted, is_sure, refutation, refuted_ways
@@ -19,42 +19,40 @@ class Choice:
 
 def failing(branch, model):
     """The numbers of facts that fail in the model, each with the places where it is to be used, or None."""
-    cast = branch.question.cast
     found = []
     for k in branch.waiting:
         truth, saying = branch.facts[k]
-        if holds_at(cast, model.standing, model.spots, saying) != truth:
+        if holds_at(model.view, model.spots, saying) != truth:
             found.append((k, None))
     for k in branch.lasting:
-        found.extend([(k, places) for places in failing_places(branch, model, k) if (k, places) not in branch.spent])
+        saying = branch.facts[k][1]
+        for places in places_for(model, saying):
+            # What was used once fails only as a fact that waits.
+            if (k, places) not in branch.spent and fails_at(model, saying, places):
+                found.append((k, places))
     return found
 
 
-def failing_places(branch, model, k):
-    """The tuples of places at which a lasting fact fails in the model."""
-    saying = branch.facts[k][1]
+def places_for(model, saying):
+    """The tuples of places of the model, in order, that a lasting saying tells of."""
     holders = model.holders
     if saying[0] == "each":
-        tuples = [(place,) for place in holders]
-        return [places for places in tuples if fails_at(branch, model, saying, places)]
+        return [(place,) for place in holders]
     if saying[0] == "next":
-        low, high = model.spots[saying[1]], model.spots[saying[2]]
-        return [(place,) for place in holders[low + 1:high]]
-    tuples = [(low, high) for at, high in enumerate(holders) for low in holders[:at]]
-    return [places for places in tuples if fails_at(branch, model, saying, places)]
+        return [(place,) for place in holders[model.spots[saying[1]] + 1:model.spots[saying[2]]]]
+    return [(low, high) for at, high in enumerate(holders) for low in holders[:at]]
 
 
-def fails_at(branch, model, saying, places):
-    """Whether what an each, pairs or nexts says fails at these places of the model, which stand in order."""
-    cast = branch.question.cast
-    spots = dict(model.spots)
+def fails_at(model, saying, places):
+    """Whether a lasting saying fails at these places of the model, of which it tells."""
+    if saying[0] == "next":
+        return True
     if saying[0] == "nexts":
-        said = used((True, saying), places)[1][2]
-    else:
-        said = saying[-1]
-        for name, place in zip(saying[1:-1], places):
-            spots[name] = spots[place]
-    return not holds_at(cast, model.standing, spots, said)
+        return not holds_at(model.view, model.spots, at_two(saying, places[0], places[1]))
+    spots = dict(model.spots)
+    for name, place in zip(saying[1:-1], places):
+        spots[name] = spots[place]
+    return not holds_at(model.view, spots, saying[-1])
 
 
 def choice_of(branch, k, places):
@@ -113,3 +111,15 @@ def order_to_split(branch, choice):
     pairs = list(zip(choice.places, choice.places[1:] + ("end",)))
     undecided = [pair for pair in pairs if not is_sure(branch, True, ("ahead", pair[0], pair[1]))]
     return undecided[0] if undecided else None
+
+
+def rank_of(branch, choice):
+    """The least of these is to be split by: first without an order, then by few ways, then by much weight."""
+    weight = branch.question.weights.get((choice.k, choice.places), 0)
+    pair = order_to_split(branch, choice)
+    if pair is None:
+        return (0, len(choice.free), -weight)
+    # In the model the first is ahead of the second, so it isn't known that it is behind.
+    one, other = pair
+    known = is_sure(branch, False, ("ahead", other, one))
+    return (1, 2 if known else 3, -weight)

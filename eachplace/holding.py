@@ -1,37 +1,38 @@
 """Whether sayings hold in a standing."""
 
 from eachplace.sayings import BETWEEN_PLACES, BETWEEN_SUMS
-from eachplace.standings import length_of, named_places
+from eachplace.standings import named_places
 from eachplace.sums import worth_at
+from eachplace.views import View
 
 
 def holds(cast, standing, saying):
     """Whether the saying holds in this standing."""
-    return holds_at(cast, standing, named_places(cast, standing), saying)
+    return holds_at(View(cast, standing), named_places(cast, standing), saying)
 
 
-def holds_at(cast, standing, places, saying):
-    """Whether the saying holds where the names of places stand so."""
+def holds_at(view, places, saying):
+    """Whether the saying holds in a view where the names of places stand so."""
     word = saying[0]
     if word in BETWEEN_SUMS:
-        one = worth_at(cast, standing, places, saying[1])
-        other = worth_at(cast, standing, places, saying[2])
+        one = worth_at(view, places, saying[1])
+        other = worth_at(view, places, saying[2])
         return stands_so(word, one, other)
     if word in BETWEEN_PLACES:
         return lies_so(word, places[saying[1]], places[saying[2]])
     if word == "nexts":
-        return all_next_stand_so(standing[0][cast[0].index(saying[1])], saying[2])
+        return all_next_stand_so(view.rows[saying[1]][:-1], saying[2])
     if word == "each":
-        return holds_in_each(cast, standing, places, saying)
+        return holds_in_each(view, places, saying)
     if word == "pairs":
-        return holds_in_pairs(cast, standing, places, saying)
+        return holds_in_pairs(view, places, saying)
     if word == "not":
-        return not holds_at(cast, standing, places, saying[1])
+        return not holds_at(view, places, saying[1])
     if word == "and":
-        return all(holds_at(cast, standing, places, part) for part in saying[1])
+        return all(holds_at(view, places, part) for part in saying[1])
     if word == "or":
-        return any(holds_at(cast, standing, places, part) for part in saying[1])
-    return not holds_at(cast, standing, places, saying[1]) or holds_at(cast, standing, places, saying[2])
+        return any(holds_at(view, places, part) for part in saying[1])
+    return not holds_at(view, places, saying[1]) or holds_at(view, places, saying[2])
 
 
 def stands_so(word, one, other):
@@ -63,20 +64,20 @@ def all_next_stand_so(numbers, word):
     return all(stands_so(word, one, other) for one, other in zip(numbers, numbers[1:]))
 
 
-def holds_in_each(cast, standing, places, saying):
+def holds_in_each(view, places, saying):
     """Whether what an each says holds in each place."""
     name, inner = saying[1:]
     return all(
-        holds_at(cast, standing, {**places, name: place}, inner)
-        for place in range(length_of(standing))
+        holds_at(view, {**places, name: place}, inner)
+        for place in range(view.length)
     )
 
 
-def holds_in_pairs(cast, standing, places, saying):
+def holds_in_pairs(view, places, saying):
     """Whether what a pairs says holds in each two places, the first below the second."""
     one, other, inner = saying[1:]
     return all(
-        holds_at(cast, standing, {**places, one: low, other: high}, inner)
-        for high in range(length_of(standing))
+        holds_at(view, {**places, one: low, other: high}, inner)
+        for high in range(view.length)
         for low in range(high)
     )

@@ -1,11 +1,14 @@
 """Standings in which all edges of a branch are met, as near to 0 as can be."""
 
+from eachplace.views import View
+
 
 class Model:
     """A standing; where the places of a branch stand in it; and of each place of its rows one that stands there."""
 
-    def __init__(self, standing, spots, holders):
+    def __init__(self, cast, standing, spots, holders):
         self.standing = standing
+        self.view = View(cast, standing)
         self.spots = spots
         self.holders = holders
 
@@ -91,4 +94,4 @@ def model_of(branch, holders):
         tuple([spots[place] for place in places]),
         tuple([numbers.get(name, 0) for name in named]),
     )
-    return Model(standing, spots, names)
+    return Model(question.cast, standing, spots, names)

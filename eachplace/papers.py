@@ -53,7 +53,12 @@ def written(proof, page):
 
 def papers_of(ways, page):
     """The papers of ways that part at this page."""
-    return tuple([written(way.proof, page.behind(way.laid)) for way in ways])
+    papers = []
+    for at, way in enumerate(ways):
+        # A way that is gone twice has one paper.
+        earlier = ways.index(way)
+        papers.append(papers[earlier] if earlier < at else written(way.proof, page.behind(way.laid)))
+    return tuple(papers)
 
 
 def step_knot(step, page):

@@ -1,7 +1,8 @@
 """The search: branches that are closed, or a standing that breaks a saying."""
 
 from eachplace.branches import Question, first_branch
-from eachplace.choosing import choice_of, closed_by_choice, failing, go_on_by, open_strange, order_to_split, take_up
+from eachplace.choosing import choice_of, closed_by_choice, failing, go_on_by, open_strange, order_to_split
+from eachplace.choosing import rank_of, take_up
 from eachplace.facts import strangers_in
 from eachplace.models import holders_of, model_of, undecided_pair
 from eachplace.proofs import Way, closed_behind, closed_by_ways
@@ -11,12 +12,14 @@ from eachplace.settling import all_made_one, settled
 class Split:
     """A branch that goes on in several ways: cases of a fact, or the order of two places."""
 
-    def __init__(self, branch, word, fact, places, cases):
+    def __init__(self, branch, word, fact, places, cases, source):
         self.branch = branch
         self.word = word
         self.fact = fact
         self.places = places
         self.cases = cases
+        # The choice by which it came to the split.
+        self.source = source
         self.ways = []
 
     def next_guests(self):
@@ -38,9 +41,19 @@ class Split:
         if proof.rests & laid.mask() == 0:
             return closed_behind(self.branch.steps, proof)
         self.ways.append(Way(laid, proof))
+        self.branch.question.weigh(self.source)
+        self.go_again()
         if len(self.ways) < len(self.cases):
             return None
         return closed_behind(self.branch.steps, closed_by_ways(self.word, self.fact, self.places, self.ways))
+
+    def go_again(self):
+        """Goes those ways next that were gone already, as cases may stand twice: the same proof closes them."""
+        while len(self.ways) < len(self.cases):
+            earlier = self.cases.index(self.cases[len(self.ways)])
+            if earlier == len(self.ways):
+                return
+            self.ways.append(self.ways[earlier])
 
 
 def searched(cast, saying, most, size):
@@ -78,7 +91,7 @@ def gone_on(branch):
         holders = holders_of(branch)
         most = branch.question.most
         if most is not None and len(holders) > most:
-            return ("split", split_by_order(branch, undecided_pair(branch, holders)))
+            return ("split", split_by_order(branch, undecided_pair(branch, holders), None))
         model = model_of(branch, holders)
         found = failing(branch, model)
         if len(found) == 0:
@@ -110,16 +123,17 @@ def acted_on(branch, found):
 
 def split_of(branch, choices):
     """The split by one of these choices."""
-    choice = min(choices, key=lambda each: len(each.free))
+    choice = min(choices, key=lambda each: rank_of(branch, each))
+    source = (choice.k, choice.places)
     pair = order_to_split(branch, choice)
     if pair is not None:
-        return split_by_order(branch, pair)
+        return split_by_order(branch, pair, source)
     k = take_up(branch, choice)
-    return Split(branch, "cases", k, (), choice.cases)
+    return Split(branch, "cases", k, (), choice.cases, source)
 
 
-def split_by_order(branch, pair):
-    """The split by the order of two places."""
+def split_by_order(branch, pair, source):
+    """The split by the order of two places, for which a choice asks, or the most (None)."""
     one, other = pair
     ways = (("ahead", one, other), ("here", one, other), ("ahead", other, one))
-    return Split(branch, "order", None, pair, [((True, way),) for way in ways])
+    return Split(branch, "order", None, pair, [((True, way),) for way in ways], source)

@@ -1,7 +1,8 @@
 """Sums: a whole number, and what a number or a row at a place has."""
 
 from eachplace.casts import is_cast, is_of_sort, sorts_of
-from eachplace.standings import named_places, number_at
+from eachplace.standings import named_places
+from eachplace.views import View
 from eachplace.wholes import is_whole
 
 
@@ -33,15 +34,15 @@ def is_base_in(sorts, thing):
 
 def worth(cast, standing, one):
     """What the sum is worth in this standing."""
-    return worth_at(cast, standing, named_places(cast, standing), one)
+    return worth_at(View(cast, standing), named_places(cast, standing), one)
 
 
-def worth_at(cast, standing, places, one):
-    """What the sum is worth where the names of places stand so."""
+def worth_at(view, places, one):
+    """What the sum is worth in a view where the names of places stand so."""
     base, more = one
     if base is None:
         return more
     if isinstance(base, tuple):
         row, place = base
-        return number_at(cast, standing, row, places[place]) + more
-    return standing[2][cast[2].index(base)] + more
+        return view.rows[row][places[place]] + more
+    return view.numbers[base] + more
