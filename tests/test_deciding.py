@@ -275,6 +275,18 @@ class ManyCasesTest(DecidedTest):
         self.assert_decided(CAST, said(f"not and ( unlike a.j 3 each x same a.x 3 ahead j end {parts} )"), "holds")
         self.assert_decided(CAST, said(f"not and ( unlike a.j 3 each x same a.x 3 {parts} )"), "broken")
 
+    def test_cases_that_stand_twice(self):
+        twice = "or ( most c 3 most c 3 most 7 c most c 3 most 7 c )"
+        for text, word in (("same c 5 same c 5 same c 6", "holds"), ("same c 5 same c 3 same c 5", "broken")):
+            self.assert_decided(CAST, said(f"not and ( {twice} or ( {text} ) )"), word)
+            self.assert_decided(CAST, said(f"not and ( or ( {text} ) {twice} )"), word)
+        names = tuple("ijk")
+        cast = (("a",), names, ())
+        order = " ".join(f"ahead {one} {other}" for one, other in zip(names, names[1:] + ("end",)))
+        for top, word in ((1, "holds"), (2, "broken")):
+            text = f"not and ( {order} pairs x y or ( unlike a.x a.y unlike a.x a.y ) each x and ( most 0 a.x most a.x {top} ) )"
+            self.assert_decided(cast, said(text, cast), word)
+
     def test_two_rows_of_two_numbers(self):
         names = tuple("ijkl")
         cast = (("a", "b"), names, ())
