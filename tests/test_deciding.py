@@ -280,6 +280,9 @@ class ManyCasesTest(DecidedTest):
         for text, word in (("same c 5 same c 5 same c 6", "holds"), ("same c 5 same c 3 same c 5", "broken")):
             self.assert_decided(CAST, said(f"not and ( {twice} or ( {text} ) )"), word)
             self.assert_decided(CAST, said(f"not and ( or ( {text} ) {twice} )"), word)
+        for text in ("less c 0 less 0 c less 0 c", "less 0 c less c 0 less 0 c less c 0", "less c 0 less c 0 less 0 c"):
+            self.assert_decided(CAST, said(f"not and ( or ( {text} ) or ( same c 0 same c 0 ) )"), "holds")
+            self.assert_decided(CAST, said(f"not and ( or ( {text} ) or ( same c 0 same c 1 ) )"), "broken")
         names = tuple("ijk")
         cast = (("a",), names, ())
         order = " ".join(f"ahead {one} {other}" for one, other in zip(names, names[1:] + ("end",)))
