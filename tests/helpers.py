@@ -1,6 +1,7 @@
 """Things that several tests hand in."""
 
 import copy
+import itertools
 import random
 
 GREAT = 10 ** 40 - 1
@@ -44,6 +45,14 @@ def asked_twice(test, function, *handed):
 def shape(thing):
     """A text by which unlike things differ, truths and whole numbers too."""
     return repr(thing)
+
+
+def small_standings(cast, length, sizes):
+    """All standings of the cast of this length whose numbers are of these."""
+    for rows in itertools.product(itertools.product(sizes, repeat=length), repeat=len(cast[0])):
+        for places in itertools.product(range(length + 1), repeat=len(cast[1])):
+            for numbers in itertools.product(sizes, repeat=len(cast[2])):
+                yield (rows, places, numbers)
 
 
 class Asking:
@@ -157,3 +166,45 @@ class Mixer:
         parts = [self.saying(self.dice.randint(1, 3)) for _ in range(self.dice.randint(0, 5))]
         parts = tuple(("not", part) if self.dice.random() < 0.3 else part for part in parts)
         return ("if", ("and", parts), self.saying(self.dice.randint(2, 5)))
+
+
+class ProgramMaker(Maker):
+    """Makes right programs of a cast, the same ones each time."""
+
+    def spot(self):
+        return self.dice.choice([*self.cast[1], *self.cast[1], "end"])
+
+    def deed(self):
+        rows, places, numbers = self.cast
+        words = ["put", "put", "swap"]
+        words += ["stand", "begin", "go", "go"] if places else []
+        words += ["set"] if numbers else []
+        word = self.dice.choice(words)
+        if word == "put":
+            return (word, self.dice.choice(rows), self.spot(), self.sum())
+        if word == "swap":
+            return (word, self.dice.choice(rows), self.spot(), self.spot())
+        if word == "set":
+            return (word, self.dice.choice(numbers), self.sum())
+        if word == "stand":
+            return (word, self.dice.choice(places), self.spot())
+        return (word, self.dice.choice(places))
+
+    def asked(self):
+        """A saying without each, pairs, nexts, next."""
+        return self.saying(2, bound=("end",))
+
+    def block(self, deep, longest=3):
+        deeds = []
+        for _ in range(self.dice.randrange(longest + 1)):
+            throw = self.dice.random() if deep > 0 else 1
+            if throw < 0.2:
+                deeds.append(("if", self.asked(), self.block(deep - 1), self.block(deep - 1)))
+            elif throw < 0.4:
+                deeds.append(("while", self.asked(), self.saying(2), self.block(deep - 1)))
+            else:
+                deeds.append(self.deed())
+        return tuple(deeds)
+
+    def program(self, deep=2):
+        return (self.cast, self.saying(3), self.block(deep), self.saying(3))

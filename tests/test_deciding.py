@@ -9,7 +9,7 @@ from eachplace.holding import holds
 from eachplace.sayings import atoms_in, is_saying, needed
 from eachplace.sayingtexts import read_saying
 from eachplace.standings import is_standing, length_of
-from tests.helpers import Maker, Mixer, asked_twice, nested
+from tests.helpers import Maker, Mixer, asked_twice, nested, small_standings
 
 CAST = (("a", "b"), ("i", "j"), ("c", "d"))
 NINE = "999999999"
@@ -58,13 +58,6 @@ BROKEN = (
 
 def said(text, cast=CAST):
     return read_saying(cast, text)
-
-
-def small_standings(cast, length, sizes):
-    for rows in itertools.product(itertools.product(sizes, repeat=length), repeat=len(cast[0])):
-        for places in itertools.product(range(length + 1), repeat=len(cast[1])):
-            for numbers in itertools.product(sizes, repeat=len(cast[2])):
-                yield (rows, places, numbers)
 
 
 def with_atoms(many):
