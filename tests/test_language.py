@@ -67,6 +67,10 @@ INTERFACE = {
     "programs": {"is_program": ["thing"], "heads_of": ["program"]},
     "runs": {"run": ["program", "standing", "most"], "askings": ["program", "standing", "most"]},
     "legs": {"legs_of": ["program"], "along": ["program", "leg", "standing"]},
+    "judging": {"claim_of": ["program", "leg"], "judged": ["program"]},
+    "forms": {"kept_of": ["program", "forms"]},
+    "desk": {"Desk": None},
+    "programtexts": {"show_program": ["program"], "read_program": ["text"]},
 }
 
 
@@ -225,6 +229,12 @@ class InterfaceTest(unittest.TestCase):
                 else:
                     self.assertIsInstance(nodes[name], ast.FunctionDef)
                     self.assertEqual([arg.arg for arg in nodes[name].args.args], arguments, name)
+
+    def test_methods_stand_in_their_class(self):
+        desk = [node for node in TREES["desk"].body if getattr(node, "name", None) == "Desk"][0]
+        methods = {node.name: [arg.arg for arg in node.args.args] for node in desk.body if isinstance(node, ast.FunctionDef)}
+        self.assertEqual(methods["__init__"], ["self", "cast"])
+        self.assertEqual(methods["say"], ["self", "row"])
 
 
 if __name__ == "__main__":
