@@ -87,8 +87,8 @@ class Exchanged(Carrier):
             # Where it is called as one of the two the other case tells nothing more.
             if place != other:
                 cases.append((hit, ((row, other), more)))
-        cases.append((tuple([none_of(hit) for hit, one in cases]), plain))
-        return cases
+        stays = tuple([none_of(hit) for hit, one in cases])
+        return cases + [(stays, plain)]
 
     def in_order(self, row, word):
         """The nexts of the row is carried as a pairs."""

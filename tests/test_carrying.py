@@ -24,6 +24,7 @@ WORDS = (
     "pairs x y most a.x a.y", "pairs x y less a.y+1 a.x", "pairs x y if ahead y i same a.x a.y", "pairs x y ahead x y",
     "pairs x y or ( here x i here y j unlike a.x a.j )", "pairs y x less a.y a.x", "pairs x y not ahead y x",
     "pairs x y if and ( not ahead x i ahead y j ) most a.x a.y", "pairs x y not and ( here x j here y i )",
+    "pairs x y here x y", "pairs x y not here y x", "each x here x x", "each x not ahead x x", "pairs x y if ahead y j here x i",
     "and ( )", "or ( )",
 )
 WRAPS = ("{}", "not {}", "and ( {} most c 1 )", "or ( {} less c 0 )", "if {} ahead i j", "if ahead i j {}", "not or ( not {} )")

@@ -181,10 +181,12 @@ class EachDeedTest(ClaimsTest):
 
     def test_names_that_might_be_taken(self):
         cast = (("x", "y"), ("z",), ())
-        first = ("each", "a", ("same", (("x", "a"), 0), (("y", "a"), 0)))
-        last = ("pairs", "b", "c", ("same", (("x", "b"), 0), (("y", "c"), 0)))
-        for deeds in ((("put", "x", "z", (None, 1)), ("go", "z")), (("begin", "z"), ("swap", "y", "z", "z"), ("put", "y", "z", (("x", "end"), 0)))):
-            self.assert_just_where_wrong((cast, first, deeds, last))
+        for one, other, third in (("a", "b", "c"), ("b", "c", "d"), ("c", "b", "a"), ("d", "a", "e")):
+            first = ("each", one, ("same", (("x", one), 0), (("y", one), 0)))
+            last = ("pairs", other, third, ("same", (("x", other), 0), (("y", third), 0)))
+            for deeds in ((("put", "x", "z", (None, 1)), ("go", "z")), (("begin", "z"), ("swap", "y", "z", "z"), ("put", "y", "z", (("x", "end"), 0)))):
+                self.assert_just_where_wrong((cast, first, deeds, last))
+                self.assert_just_where_wrong((cast, last, deeds, first))
 
     def test_great_sums(self):
         great = 999999999

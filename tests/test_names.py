@@ -1,6 +1,6 @@
 import unittest
 
-from eachplace.names import is_name
+from eachplace.names import free_names, is_name
 from tests.helpers import Asking, odd_things
 
 WORDS = (
@@ -52,6 +52,25 @@ class NamesTest(Asking, unittest.TestCase):
             self.assert_no(is_name, thing)
         for thing in (("a",), ["a"], {"a": "a"}, b"a", ("a", "b")):
             self.assert_no(is_name, thing)
+
+
+class FreeNamesTest(unittest.TestCase):
+    def test_none_is_taken_or_told_twice(self):
+        for many in (0, 1, 2, 26, 27, 60, 800):
+            found = free_names((), many)
+            self.assertEqual(len(found), many)
+            self.assertEqual(len(set(found)), many)
+            self.assertTrue(all(is_name(name) for name in found))
+            others = free_names(found, 40)
+            self.assertEqual(set(found) & set(others), set())
+            self.assertTrue(all(is_name(name) for name in others))
+
+    def test_words_are_passed_over(self):
+        found = free_names(("x", "b"), 720)
+        self.assertNotIn("or", found)
+        self.assertNotIn("if", found)
+        self.assertNotIn("go", found)
+        self.assertIn("on", found)
 
 
 if __name__ == "__main__":
